@@ -1,0 +1,28 @@
+"""Books of many products moved by rows for the words of their places."""
+
+from leftproducts.errors import BadLead
+from leftproducts.leads import Lead, firsts_back
+from leftproducts.many import Many, need_heights, need_many
+from leftproducts.sums import add_to, tidied_table
+from leftproducts.tables import cut_sums, is_table, put_in
+
+
+def moved_many(many, heights, rows):
+    """The lead with these rows from many to the one book with these heights to which they lead it."""
+    need_many(many)
+    need_heights(heights)
+    prime = many.prime
+    if not is_table(rows, prime, many.heights, heights, many.most, 0):
+        raise BadLead("rows")
+    table = tidied_table(rows, prime)
+    back = firsts_back(prime, table, len(many.heights), len(heights))
+    letters = {(place,): row for place, row in enumerate(back)}
+    wanted = put_in(prime, many.heights, many.products, table, 1, many.most)
+    products = {}
+    # The rule of a lead tells the product of a word of rows of one place by the shorter products.
+    for length in range(1, many.most + 1):
+        rest = {word: dict(row) for word, row in wanted.items() if len(word) == length}
+        for word, row in cut_sums(prime, table, products, length, length).items():
+            add_to(rest.setdefault(word, {}), row, -1)
+        products.update(cut_sums(prime, letters, tidied_table(rest, prime), length, length))
+    return Lead(many, Many(prime, heights, many.most, products), table)

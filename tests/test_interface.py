@@ -1,0 +1,54 @@
+"""Each name of the interface stands in its file with its parameters (point 3, the interface)."""
+
+import ast
+import importlib
+import inspect
+import unittest
+
+INTERFACE = {
+    "frames": {"Frame": "prime heights product step"},
+    "rows": {"multiplied": "frame one other", "stepped": "frame row", "added": "frame one other times",
+             "heights_of": "frame row", "one_row": "frame"},
+    "makers": {"turning_frame": "prime letters steps", "faces_frame": "prime faces",
+               "words_frame": "prime heights steps most"},
+    "sides": {"turned": "frame", "beside": "one other", "renamed": "frame order", "plain_part": "frame places"},
+    "leftovers": {"left_sizes": "frame", "is_left": "frame row", "is_made": "frame row"},
+    "choices": {"is_choice": "frame thing", "made_choice": "frame", "left_heights": "frame choice",
+                "left_product": "frame choice"},
+    "many": {"Many": "prime heights most products", "rule_rows": "prime heights products length",
+             "product_row": "many word", "rows_product": "many rows", "ends": "many", "cut_many": "many length",
+             "many_of": "frame most", "frame_of": "many"},
+    "leads": {"Lead": "one other rows", "plain_lead": "many", "put_behind": "first second", "undone_lead": "lead"},
+    "transfers": {"left_many": "frame choice most", "left_into": "frame choice most",
+                  "left_onto": "frame choice most"},
+    "moves": {"moved_many": "many heights rows"},
+    "leasts": {"is_least": "many", "least_many": "many", "leaves_same": "lead"},
+}
+
+
+class InterfaceTest(unittest.TestCase):
+    def test_names_and_parameters(self):
+        for file, names in INTERFACE.items():
+            module = importlib.import_module(f"leftproducts.{file}")
+            with open(module.__file__, encoding="utf-8") as source:
+                tree = ast.parse(source.read())
+            here = [part.name for part in tree.body if isinstance(part, (ast.FunctionDef, ast.ClassDef))]
+            for name, parameters in names.items():
+                self.assertIn(name, here)
+                thing = getattr(module, name)
+                self.assertEqual(list(inspect.signature(thing).parameters), parameters.split(), name)
+
+    def test_objects_are_equal_to_nothing_of_another_kind(self):
+        from leftproducts.frames import Frame
+        from leftproducts.leads import plain_lead
+        from leftproducts.many import many_of
+        frame = Frame(3, [0], {}, {})
+        many = many_of(frame, 2)
+        things = [frame, many, plain_lead(many), None, (), {}, 0, "x"]
+        for k, one in enumerate(things):
+            for j, other in enumerate(things):
+                self.assertEqual(one == other, k == j)
+
+
+if __name__ == "__main__":
+    unittest.main()
