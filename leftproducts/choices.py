@@ -125,14 +125,12 @@ def levels_of(heights, within):
 
 def left_heights(frame, choice):
     """The heights of the leftovers of a choice for the frame."""
-    need_frame(frame)
     within, _, _ = tidied_choice(frame, choice)
     return levels_of(frame.heights, within)
 
 
 def left_product(frame, choice):
     """The products of pairs of leftovers."""
-    need_frame(frame)
     within, onto, _ = tidied_choice(frame, choice)
     table = {}
     for a, one in enumerate(within):

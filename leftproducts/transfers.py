@@ -1,7 +1,6 @@
 """What is left with all its products: a book of many products, and the leads to the frame and back."""
 
 from leftproducts.choices import levels_of, tidied_choice
-from leftproducts.frames import need_frame
 from leftproducts.judging import need_few, need_number
 from leftproducts.leads import Lead
 from leftproducts.many import Many, many_of
@@ -36,7 +35,6 @@ def left_by_trees(many, choice):
 
 
 def _checked_choice(frame, choice, most):
-    need_frame(frame)
     tidy = tidied_choice(frame, choice)
     need_number(most, 1, 8, "most")
     return tidy

@@ -63,6 +63,9 @@ class FrameTest(unittest.TestCase):
         self.bad("bracket", 3, [1, 2, 3], {(0, 0): {1: 1}, (1, 0): {2: 1}}, {})
         self.bad("bracket", 3, [1, 2, 3], {(0, 0): {1: 1}, (0, 1): {2: 1}, (1, 0): {2: 2}}, {})
         Frame(3, [1, 2, 3], {(0, 0): {1: 1}, (0, 1): {2: 1}, (1, 0): {2: 4}}, {})
+        # One of both sides is nothing as the first product in it is.
+        self.bad("bracket", 3, [1, 1, 2, 3], {(0, 1): {2: 1}, (2, 0): {3: 1}}, {})
+        self.bad("bracket", 3, [1, 1, 2, 3], {(1, 0): {2: 1}, (0, 2): {3: 1}}, {})
         # Only the last of the places breaks it.
         self.bad("bracket", 5, [0, 0], {(0, 0): {0: 1}, (1, 1): {0: 1}}, {})
         Frame(5, [0, 0], {(0, 0): {0: 1}, (1, 1): {1: 1}}, {})

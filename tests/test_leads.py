@@ -48,6 +48,7 @@ class LeadTest(unittest.TestCase):
     def test_first_errors(self):
         for junk in (None, 0, True, "x", {}, Many, letters_frame()):
             refused(self, BadMany, "part", None, Lead, junk, None, None)
+            refused(self, BadMany, "part", None, Lead, junk, self.one, {})
             refused(self, BadMany, "part", None, Lead, self.one, junk, None)
         self.bad("fit", self.one, Many(5, [1, 2], 3, {}), None)
         self.bad("fit", self.one, Many(3, [1, 2], 2, {}), None)
@@ -186,6 +187,7 @@ class PutBehindTest(unittest.TestCase):
         plain = plain_lead(many)
         for junk in (None, 0, True, "x", {}, many, Lead):
             refused(self, BadLead, "part", None, put_behind, junk, None)
+            refused(self, BadLead, "part", None, put_behind, junk, plain)
             refused(self, BadLead, "part", None, put_behind, plain, junk)
             refused(self, BadLead, "part", None, undone_lead, junk)
         for junk in (None, 0, True, "x", {}, plain, Many):

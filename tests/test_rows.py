@@ -95,6 +95,9 @@ class RowsTest(unittest.TestCase):
         self.assertEqual(one_row(Frame(3, [0, 1], {**left, **right}, {})), {0: 1})
         self.assertIsNone(one_row(Frame(3, [0, 0], {(0, 0): {0: 1}, (0, 1): {1: 1}}, {})))
         self.assertIsNone(one_row(Frame(3, [0, 0], {(0, 0): {0: 1}, (1, 0): {1: 1}}, {})))
+        almost = {(0, 0): {0: 1}, (0, 1): {1: 1}, (1, 0): {1: 1}, (0, 2): {2: 1}}
+        self.assertIsNone(one_row(Frame(3, [0, 0, 0], almost, {})))
+        self.assertEqual(one_row(Frame(3, [0, 0, 0], {**almost, (2, 0): {2: 1}}, {})), {0: 1})
         self.assertEqual(one_row(Frame(7, [0], {(0, 0): {0: 3}}, {})), {0: 5})
         two_points = Frame(5, [0, 0], {(0, 0): {0: 1}, (1, 1): {1: 2}}, {})
         self.assertEqual(list(one_row(two_points).items()), [(0, 1), (1, 3)])

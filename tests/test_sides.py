@@ -101,11 +101,17 @@ class BesideTest(unittest.TestCase):
         self.assertEqual(len(beside(eight, four).heights), 32)
         refused(self, TooMany, "most", 32, beside, eight, five)
         refused(self, TooMany, "most", 32, beside, five, eight)
+        refused(self, TooMany, "most", 32, beside, Frame(3, [0] * 3, {}, {}), Frame(3, [0] * 11, {}, {}))
         refused(self, TooMany, "most", 32, beside, Frame(3, [0] * 32, {}, {}), Frame(3, [0] * 2, {}, {}))
         self.assertEqual(beside(Frame(3, [0] * 32, {}, {}), Frame(3, [], {}, {})), Frame(3, [], {}, {}))
         self.assertEqual(beside(Frame(3, [-8, 9], {}, {}), Frame(3, [0, 7], {}, {})).heights, (-8, -1, 9, 16))
         refused(self, BadFrame, "part", "heights", beside, Frame(3, [10], {}, {}), Frame(3, [7], {}, {}))
         refused(self, BadFrame, "part", "heights", beside, Frame(3, [-4], {}, {}), Frame(3, [-5], {}, {}))
+        # TooMany comes last.
+        refused(self, BadFrame, "part", "heights", beside, Frame(3, [8] * 8, {}, {}), Frame(3, [9] * 5, {}, {}))
+        refused(self, BadFrame, "part", "heights", beside, Frame(3, [-4] * 8, {}, {}), Frame(3, [-5] * 5, {}, {}))
+        refused(self, TooMany, "most", 32, beside, Frame(3, [8] * 8, {}, {}), Frame(3, [8] * 5, {}, {}))
+        refused(self, TooMany, "most", 32, beside, Frame(3, [-4] * 8, {}, {}), Frame(3, [-4] * 5, {}, {}))
 
     def test_named_parameters(self):
         one, other = Frame(3, [0], {}, {}), Frame(3, [1, 2], {}, {})
