@@ -70,10 +70,8 @@ def _fits_heights(frame, within, onto, undo):
     return True
 
 
-def _undoes_steps(frame, within, onto, undo):
+def _undoes_steps(prime, steps, within, onto, undo):
     # The step of undo and undo of the step are within of onto less the place itself.
-    prime = frame.prime
-    steps = steps_of(frame)
     for place in range(len(steps)):
         total = led(steps, undo[place], prime)
         add_to(total, led(undo, steps[place], prime), 1)
@@ -84,16 +82,15 @@ def _undoes_steps(frame, within, onto, undo):
     return True
 
 
-def _keeps_choice_rules(frame, within, onto, undo):
-    prime = frame.prime
-    steps = steps_of(frame)
+def keeps_choice_rules(prime, steps, within, onto, undo):
+    """Whether tidied rows are a choice for so many places with these steps, heights left aside."""
     for k, row in enumerate(within):
         if led(steps, row, prime) or led(onto, row, prime) != {k: 1} or led(undo, row, prime):
             return False
     for place in range(len(steps)):
         if led(onto, steps[place], prime) or led(onto, undo[place], prime) or led(undo, undo[place], prime):
             return False
-    return _undoes_steps(frame, within, onto, undo)
+    return _undoes_steps(prime, steps, within, onto, undo)
 
 
 def is_choice(frame, thing):
@@ -102,7 +99,8 @@ def is_choice(frame, thing):
     if not _is_triple_of_rows(frame, thing):
         return False
     within, onto, undo = _tidied_choice(frame, thing)
-    return _fits_heights(frame, within, onto, undo) and _keeps_choice_rules(frame, within, onto, undo)
+    return (_fits_heights(frame, within, onto, undo)
+            and keeps_choice_rules(frame.prime, steps_of(frame), within, onto, undo))
 
 
 def tidied_choice(frame, choice):

@@ -56,10 +56,17 @@ def need_number(number, least, most, part):
         raise BadNumber(part)
 
 
+def need_any_number(number, part):
+    """Raises BadNumber(part) unless number is one."""
+    if not is_number(number):
+        raise BadNumber(part)
+
+
 def need_few(many, factors, limit):
     """Raises TooMany(limit) if many, as so many factors, is above limit."""
     power = 1
     for _ in range(factors):
         power = power * many
-    if power > limit:
-        raise TooMany(limit)
+        # There may be far more factors than it takes.
+        if power > limit:
+            raise TooMany(limit)

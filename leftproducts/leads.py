@@ -7,15 +7,20 @@ from leftproducts.sums import led, tidied_table
 from leftproducts.tables import cut_sums, is_table, put_in
 
 
+def need_fit(one, other):
+    """Raises BadLead("fit") unless both books are of the same prime and most."""
+    if one.prime != other.prime or one.most != other.most:
+        raise BadLead("fit")
+
+
 class Lead:
     """Rows of other for words of 1 to most places of one that go along with all products."""
 
     def __init__(self, one, other, rows):
         need_many(one)
         need_many(other)
-        if one.prime != other.prime or one.most != other.most:
-            raise BadLead("fit")
-        if not is_table(rows, one.prime, one.heights, other.heights, one.most, 0):
+        need_fit(one, other)
+        if not is_table(rows, one.prime, one.heights, other.heights, (1, one.most), 0):
             raise BadLead("rows")
         self.one = one
         self.other = other
@@ -35,10 +40,15 @@ def need_lead(lead):
         raise BadLead(None)
 
 
+def plain_rows(many):
+    """Each word of one place to this place."""
+    return {(place,): {place: 1} for place in range(len(many.heights))}
+
+
 def plain_lead(many):
     """The lead that leaves each place as it is."""
     need_many(many)
-    return Lead(many, many, {(place,): {place: 1} for place in range(len(many.heights))})
+    return Lead(many, many, plain_rows(many))
 
 
 def put_behind(first, second):

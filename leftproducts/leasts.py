@@ -1,6 +1,7 @@
 """Least books: those without products of one place, and the leads that leave the same."""
 
 from leftproducts.choices import choice_of_steps
+from leftproducts.errors import NotLeast
 from leftproducts.judging import need_few
 from leftproducts.leads import need_lead
 from leftproducts.leftovers import sizes_left
@@ -22,6 +23,12 @@ def is_least(many):
     """Whether no word of one place has a product."""
     need_many(many)
     return not any([len(word) == 1 for word in many.products])
+
+
+def need_least(many):
+    """Raises BadMany(None) unless many is a Many, NotLeast unless it is a least one."""
+    if not is_least(many):
+        raise NotLeast("a book without products of one place is wanted")
 
 
 def least_many(many):

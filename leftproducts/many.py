@@ -20,7 +20,7 @@ class Many:
         need_prime(prime)
         need_heights(heights)
         need_number(most, 1, 8, "most")
-        if not is_table(products, prime, heights, heights, most, 1):
+        if not is_table(products, prime, heights, heights, (1, most), 1):
             raise BadMany("products")
         self.prime = prime
         self.heights = tuple(heights)
@@ -45,7 +45,7 @@ def rule_rows(prime, heights, products, length):
     need_prime(prime)
     need_heights(heights)
     need_number(length, 1, 15, "length")
-    if not is_table(products, prime, heights, heights, length, 1):
+    if not is_table(products, prime, heights, heights, (1, length), 1):
         raise BadMany("products")
     table = tidied_table(products, prime)
     return put_in(prime, heights, table, table, length, length)

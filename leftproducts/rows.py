@@ -1,9 +1,9 @@
 """Rows of a frame: multiplied, stepped, added."""
 
-from leftproducts.errors import BadNumber, BadRow
+from leftproducts.errors import BadRow
 from leftproducts.frames import need_frame, steps_of
-from leftproducts.judging import is_number, is_row
-from leftproducts.solving import less_basis, put_to_basis
+from leftproducts.judging import is_row, need_any_number
+from leftproducts.solving import one_sum, put_to_basis
 from leftproducts.sums import add_to, led, product_sum, tidied
 
 
@@ -33,8 +33,7 @@ def added(frame, one, other, times):
     need_frame(frame)
     need_row(frame, one)
     need_row(frame, other)
-    if not is_number(times):
-        raise BadNumber("times")
+    need_any_number(times, "times")
     total = dict(one)
     add_to(total, other, times)
     return tidied(total, frame.prime)
@@ -71,7 +70,4 @@ def one_row(frame):
     for other in range(size):
         aim[2 * other * size + other] = 1
         aim[(2 * other + 1) * size + other] = 1
-    rest = less_basis(basis, aim, frame.prime)
-    if any([place < behind for place in rest]):
-        return None
-    return tidied({place - behind: -rest[place] for place in rest}, frame.prime)
+    return one_sum(basis, behind, aim, frame.prime)

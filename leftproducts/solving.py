@@ -25,6 +25,16 @@ def less_basis(basis, row, prime):
     return tidied(rest, prime)
 
 
+def _take_off(row, fresh, times, prime):
+    # In place, as far as fresh reaches: rows may be far longer.
+    for place in fresh:
+        number = (row.get(place, 0) - times * fresh[place]) % prime
+        if number:
+            row[place] = number
+        else:
+            del row[place]
+
+
 def put_to_basis(basis, row, prime):
     """Puts what row has beyond the basis to it, and returns that: {} if it has nothing."""
     rest = less_basis(basis, row, prime)
@@ -32,10 +42,10 @@ def put_to_basis(basis, row, prime):
         return rest
     first = min(rest)
     over = inverse(rest[first], prime)
-    fresh = tidied({place: rest[place] * over for place in rest}, prime)
+    fresh = {place: rest[place] * over % prime for place in rest}
     for other in list(basis):
         if first in basis[other]:
-            basis[other] = less_basis({first: fresh}, basis[other], prime)
+            _take_off(basis[other], fresh, basis[other][first], prime)
     basis[first] = fresh
     return rest
 
@@ -61,6 +71,35 @@ def ahead_of(row, size):
 def tags_of(row, size):
     """The tags of a row, numbered from 0."""
     return {place - size: row[place] for place in row if place >= size}
+
+
+def one_sum(basis, size, aim, prime):
+    """The numbers by which the rows that basis was made of, tagged, are taken to be aim together; None if
+    there are none."""
+    rest = less_basis(basis, aim, prime)
+    if any([place < size for place in rest]):
+        return None
+    return tidied({place - size: -rest[place] for place in rest}, prime)
+
+
+def nothing_sums(basis, size):
+    """Rows of numbers by which the rows that basis was made of, tagged, are nothing together; all others
+    are sums of multiples of these."""
+    return [tags_of(basis[first], size) for first in sorted(basis) if first >= size]
+
+
+def all_sums(start, rows, prime):
+    """start and all sums of multiples of the rows, which are free of one another, together."""
+    found = [start]
+    for row in rows:
+        grown = []
+        for one in found:
+            for times in range(prime):
+                total = dict(one)
+                add_to(total, row, times)
+                grown.append(tidied(total, prime))
+        found = grown
+    return found
 
 
 def undone_rows(rows, size, prime):

@@ -9,18 +9,24 @@ def turn_of(heights, word):
     return sum([heights[place] - 1 for place in word])
 
 
-def is_table(thing, prime, heights, aims, most, more):
-    """Whether thing leads words of 1 to most places of these heights to rows of places with the heights
-    aims, each place of a row with more turn than its word."""
+def is_table(thing, prime, heights, aims, lengths, more):
+    """Whether thing leads words of places of these heights, from the first to the second of the two lengths,
+    to rows of places with the heights aims, each place of a row with more turn than its word."""
     if not isinstance(thing, dict):
         return False
+    least, most = lengths
     for word in thing:
-        if not is_word(word, len(heights), 1, most) or not is_row(thing[word], len(aims)):
+        if not is_word(word, len(heights), least, most) or not is_row(thing[word], len(aims)):
             return False
         turn = turn_of(heights, word) + more
         if not all([aims[place] - 1 == turn for place in tidied(thing[word], prime)]):
             return False
     return True
+
+
+def of_length(table, length):
+    """The part of the table for words of just so many places."""
+    return {word: row for word, row in table.items() if len(word) == length}
 
 
 def ways_to(table):
@@ -32,14 +38,15 @@ def ways_to(table):
     return ways
 
 
-def put_in(prime, heights, inner, outer, least, most):
-    """For words of least to most places the sum, over all ways to write them as u v x, v not empty, of
-    outer of u, (inner of v), x, with the sign of the turn of u; the heights are those of inner's places."""
+def put_in(prime, heights, inner, outer, least, most, more=1):
+    """For words of least to most places the sum, over all ways to write them as u v x, of outer of
+    u, (inner of v), x, with the sign of going past u; v is empty only where inner has a row for (). The
+    heights are those of inner's places, and inner's rows have so much more turn than its words."""
     ways = ways_to(inner)
     found = {}
     for word in outer:
         for k in range(len(word)):
-            times = sign(turn_of(heights, word[:k]))
+            times = sign(more * turn_of(heights, word[:k]))
             for piece, number in ways.get(word[k], []):
                 if len(word) - 1 + len(piece) > most:
                     break

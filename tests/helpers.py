@@ -60,6 +60,31 @@ def is_ascending(thing):
     return True
 
 
+def rank(rows, prime):
+    """How many rows a basis of the sums of multiples of rows has."""
+    done = {}
+    for row in rows:
+        row = clean(row, prime)
+        while row and min(row) in done:
+            first = min(row)
+            plus(row, done[first], -row[first])
+            row = clean(row, prime)
+        if row:
+            over = pow(row[min(row)], -1, prime)
+            done[min(row)] = {k: number * over % prime for k, number in row.items()}
+    return len(done)
+
+
+def is_sum_of(row, rows, prime):
+    """Whether row is a sum of multiples of rows."""
+    return rank(list(rows) + [row], prime) == rank(rows, prime)
+
+
+def all_rows(prime, places):
+    """All rows with numbers at these places alone."""
+    return [clean(dict(zip(places, numbers)), prime) for numbers in pairs_of(range(prime), repeat=len(places))]
+
+
 def random_rows(rnd, prime, heights, times=40):
     """Rows of one place each, of its own height, that can be undone, and the rows back."""
     size = len(heights)

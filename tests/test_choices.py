@@ -7,7 +7,7 @@ from leftproducts.errors import BadChoice, BadFrame
 from leftproducts.frames import Frame
 from leftproducts.leftovers import left_sizes
 from leftproducts.makers import turning_frame
-from tests.helpers import (JUNK, clean, frame_product, is_ascending, letters_frame, mixed_frame, other_choice, plus,
+from tests.helpers import (JUNK, all_rows, clean, frame_product, is_ascending, letters_frame, mixed_frame, other_choice, plus,
                            refused, small_frames, spread, untouched)
 
 
@@ -38,10 +38,6 @@ def holds(frame, thing):
         if clean(total, prime):
             return False
     return True
-
-
-def all_rows(prime, size):
-    return [clean(dict(enumerate(numbers)), prime) for numbers in pairs_of(range(prime), repeat=size)]
 
 
 # x (0) and its step y (1), and z (2) that is left; y stands at place 2, z at place 1.
@@ -109,9 +105,9 @@ class IsChoiceTest(unittest.TestCase):
         for frame, many in cases:
             size, prime = len(frame.heights), frame.prime
             found = 0
-            for within in pairs_of(all_rows(prime, size), repeat=many):
-                for onto in pairs_of(all_rows(prime, many), repeat=size):
-                    for undo in pairs_of(all_rows(prime, size), repeat=size):
+            for within in pairs_of(all_rows(prime, range(size)), repeat=many):
+                for onto in pairs_of(all_rows(prime, range(many)), repeat=size):
+                    for undo in pairs_of(all_rows(prime, range(size)), repeat=size):
                         wanted = holds(frame, (within, onto, undo))
                         found += wanted
                         if is_choice(frame, (within, onto, undo)) != wanted:

@@ -23,6 +23,21 @@ INTERFACE = {
                   "left_onto": "frame choice most"},
     "moves": {"moved_many": "many heights rows"},
     "leasts": {"is_least": "many", "least_many": "many", "leaves_same": "lead"},
+    "alikes": {"alike_lead": "one other", "alike_firsts": "one other"},
+    "sames": {"choice_lead": "frame one other most", "same_lead": "one other most"},
+    "tidyrows": {"tidy_rows": "prime rows", "row_less": "prime tidy row"},
+    "doubts": {"doubt_of_three": "many one other third", "doubt_of_four": "many one other third fourth"},
+    "framedoubts": {"frame_doubt_of_three": "frame choice one other third",
+                    "frame_doubt_of_four": "frame choice one other third fourth"},
+    "plainmaps": {"is_plain_map": "one other rows", "map_left": "one choice other mate rows"},
+    "changes": {"is_change": "many turn thing", "changes_put": "many one one_turn other other_turn",
+                "changes_bracket": "many one one_turn other other_turn", "changed": "many change turn",
+                "change_sizes": "many length turn", "told_change": "many change turn"},
+    "formal": {"first_place": "many", "is_formal": "many", "done_away": "many", "scaled_lead": "many unit"},
+    "letterbooks": {"LetterBook": "prime letters most rules", "rest_texts": "book length", "rest": "book texts"},
+    "bars": {"bars": "book", "bar_step": "book row", "bar_product": "book one other", "ladder_counts": "book"},
+    "barchoices": {"bar_choice": "book", "is_bar_choice": "book thing"},
+    "ladders": {"ladder_lengths": "book", "ladder_many": "book choice"},
 }
 
 
@@ -41,10 +56,11 @@ class InterfaceTest(unittest.TestCase):
     def test_objects_are_equal_to_nothing_of_another_kind(self):
         from leftproducts.frames import Frame
         from leftproducts.leads import plain_lead
+        from leftproducts.letterbooks import LetterBook
         from leftproducts.many import many_of
         frame = Frame(3, [0], {}, {})
         many = many_of(frame, 2)
-        things = [frame, many, plain_lead(many), None, (), {}, 0, "x"]
+        things = [frame, many, plain_lead(many), LetterBook(3, 1, 2, []), None, (), {}, 0, "x"]
         for k, one in enumerate(things):
             for j, other in enumerate(things):
                 self.assertEqual(one == other, k == j)

@@ -107,12 +107,18 @@ class LanguageTest(unittest.TestCase):
     def test_builtins_and_methods(self):
         names = {node.name for tree in self.trees.values() for node in ast.walk(tree)
                  if isinstance(node, (ast.FunctionDef, ast.ClassDef))}
+        own = {part.name for tree in self.trees.values() for node in ast.walk(tree) if isinstance(node, ast.ClassDef)
+               for part in node.body if isinstance(part, ast.FunctionDef)}
+        self.assertFalse(own & METHODS)
         for name, tree in self.trees.items():
-            for node in ast.walk(tree):
-                if isinstance(node, ast.Call) and isinstance(node.func, ast.Name):
-                    self.assertIn(node.func.id, names | BUILTINS, (name, node.lineno))
-                if isinstance(node, ast.Call) and isinstance(node.func, ast.Attribute):
-                    self.assertIn(node.func.attr, METHODS | {"__init__"}, (name, node.lineno))
+            for top in tree.body:
+                # What a parameter holds may be called, too.
+                given = {node.arg for node in ast.walk(top) if isinstance(node, ast.arg)}
+                for node in ast.walk(top):
+                    if isinstance(node, ast.Call) and isinstance(node.func, ast.Name):
+                        self.assertIn(node.func.id, names | BUILTINS | given, (name, node.lineno))
+                    if isinstance(node, ast.Call) and isinstance(node.func, ast.Attribute):
+                        self.assertIn(node.func.attr, METHODS | own, (name, node.lineno))
 
     def test_sets_are_counted_or_sorted_at_once(self):
         for name, tree in self.trees.items():

@@ -7,35 +7,10 @@ from leftproducts.errors import BadLead, BadMany, NotUndone
 from leftproducts.frames import Frame
 from leftproducts.leads import Lead, plain_lead, put_behind, undone_lead
 from leftproducts.many import Many, many_of
-from leftproducts.moves import moved_many
 from leftproducts.transfers import left_into, left_many, left_onto
-from tests.helpers import (JUNK, clean, cut_rows, is_ascending, lead_holds, letters_frame, other_choice,
-                           random_rows, refused, small_frames, turn, untouched, words_up_to)
-
-
-def random_table(rnd, many, share=0.7):
-    """Rows for moved_many: those of words of one place can be undone, the longer ones are any that fit."""
-    firsts, _ = random_rows(rnd, many.prime, many.heights)
-    rows = {(place,): row for place, row in enumerate(firsts)}
-    for word in words_up_to(len(many.heights), many.most, 2):
-        places = [k for k, height in enumerate(many.heights) if height - 1 == turn(many.heights, word)]
-        if places and rnd.random() < share:
-            rows[word] = {rnd.choice(places): rnd.randrange(1, 2 * many.prime)}
-    return rows
-
-
-def moved(many, seed):
-    return moved_many(many, many.heights, random_table(random.Random(seed), many))
-
-
-def some_books():
-    frame = letters_frame()
-    return [left_many(frame, made_choice(frame), 3), many_of(Frame(3, [0, 1], {}, {0: {1: 1}}), 3),
-            Many(3, [1, 1, 2], 4, {(0, 0, 1): {2: 1}, (1, 0): {2: 2}}), Many(2, [0, 1], 3, {}),
-            Many(5, [0, 0, 1], 3, {(0, 0): {0: 1}, (0, 1): {1: 1}, (0, 2): {2: 1}, (1, 0): {1: 1}, (2, 0): {2: 4}}),
-            many_of(Frame(3, [1, 2, 2], {(0, 0): {1: 1}}, {0: {2: 1}}), 3),
-            many_of(Frame(5, [0, 1, 1, 2], {(0, 1): {2: 1}, (1, 0): {2: -1}, (1, 1): {3: 1}},
-                          {0: {1: 1}, 2: {3: 1}}), 4)]
+from tests.books import moved, some_books
+from tests.helpers import (JUNK, clean, cut_rows, is_ascending, lead_holds, letters_frame, other_choice, refused,
+                           small_frames, turn, untouched, words_up_to)
 
 
 class LeadTest(unittest.TestCase):

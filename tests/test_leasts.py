@@ -10,8 +10,8 @@ from leftproducts.leftovers import left_sizes
 from leftproducts.many import Many, many_of
 from leftproducts.moves import moved_many
 from leftproducts.transfers import left_into, left_many, left_onto
+from tests.books import random_table, some_books
 from tests.helpers import letters_frame, other_choice, refused, rule_left, small_frames, untouched, words_up_to
-from tests.test_leads import random_table, some_books
 
 NO_MANYS = (None, 0, True, "x", {}, [], Many, letters_frame())
 

@@ -6,8 +6,8 @@ from leftproducts.frames import Frame
 from leftproducts.leads import Lead, plain_lead, put_behind, undone_lead
 from leftproducts.many import Many, many_of
 from leftproducts.moves import moved_many
+from tests.books import random_table, some_books
 from tests.helpers import lead_holds, letters_frame, refused, rule_left, untouched, words_up_to
-from tests.test_leads import random_table, some_books
 
 
 class MovedManyTest(unittest.TestCase):
