@@ -7,7 +7,7 @@ from leftproducts.leasts import need_least
 from leftproducts.many import need_many
 from leftproducts.moves import moved_many, moved_products
 from leftproducts.solving import all_sums, undone_rows
-from leftproducts.sums import add_to, tidied_table
+from leftproducts.sums import added_tables
 from leftproducts.tables import cut_sums, of_length, put_in
 
 
@@ -54,8 +54,6 @@ def _all_firsts(one, other):
 def _go_along(one, other, rows):
     if undone_rows(rows, len(rows), one.prime) is None:
         return False
-    if one.most == 1:
-        return True
     firsts = {(place,): row for place, row in enumerate(rows)}
     ahead = cut_sums(one.prime, firsts, of_length(other.products, 2), 2, 2)
     return ahead == put_in(one.prime, one.heights, of_length(one.products, 2), firsts, 2, 2)
@@ -71,10 +69,7 @@ class Search:
         self.changings = {}
 
     def _gap(self, products, length):
-        gap = {word: dict(row) for word, row in of_length(products, length).items()}
-        for word, row in of_length(self.other.products, length).items():
-            add_to(gap.setdefault(word, {}), row, -1)
-        return tidied_table(gap, self.other.prime)
+        return added_tables(of_length(products, length), of_length(self.other.products, length), -1, self.other.prime)
 
     def _changes(self, gap, length):
         # Rows of the longest words but one that are led on go along with no other product: any will do.

@@ -16,7 +16,7 @@ def is_bar(book, thing):
     """Whether any value is a bar of the book."""
     if not isinstance(thing, tuple) or not thing or not all([is_rest_text(book, text) for text in thing]):
         return False
-    return () not in thing and length_of(thing) <= book.most
+    return length_of(thing) <= book.most
 
 
 def is_sum_of_bars(book, thing):

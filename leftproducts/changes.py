@@ -4,7 +4,7 @@ from leftproducts.changing import Changing, changed_count
 from leftproducts.errors import BadChange
 from leftproducts.judging import need_any_number, need_few, need_number
 from leftproducts.leasts import need_least
-from leftproducts.sums import add_to, sign, tidied_table
+from leftproducts.sums import added_tables, sign, tidied_table
 from leftproducts.tables import is_table, of_length, put_in
 
 
@@ -37,10 +37,8 @@ def _put(many, one, other, other_turn):
 
 
 def _bracket(many, one, one_turn, other, other_turn):
-    total = _put(many, one, other, other_turn)
-    for word, row in _put(many, other, one, one_turn).items():
-        add_to(total.setdefault(word, {}), row, -sign(one_turn * other_turn))
-    return tidied_table(total, many.prime)
+    there, back = _put(many, one, other, other_turn), _put(many, other, one, one_turn)
+    return added_tables(there, back, -sign(one_turn * other_turn), many.prime)
 
 
 def changes_put(many, one, one_turn, other, other_turn):

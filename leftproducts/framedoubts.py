@@ -2,7 +2,6 @@
 
 from leftproducts.choices import levels_of, tidied_choice
 from leftproducts.doubts import four_told, three_told
-from leftproducts.frames import need_frame
 from leftproducts.many import many_of
 from leftproducts.sums import add_to, led, product_sum, tidied
 
@@ -36,7 +35,6 @@ def _telling(frame, choice):
 
 def frame_doubt_of_three(frame, choice, one, other, third):
     """The pair of a row of leftovers and of its doubts; None unless products of neighbours are made."""
-    need_frame(frame)
     tidy = tidied_choice(frame, choice)
     heights = levels_of(frame.heights, tidy[0])
     return three_told(frame.prime, heights, _telling(frame, tidy), [one, other, third])
@@ -44,7 +42,6 @@ def frame_doubt_of_three(frame, choice, one, other, third):
 
 def frame_doubt_of_four(frame, choice, one, other, third, fourth):
     """The pair of all rows of leftovers that come and of their doubts; None likewise."""
-    need_frame(frame)
     tidy = tidied_choice(frame, choice)
     heights = levels_of(frame.heights, tidy[0])
     return four_told(frame.prime, heights, _telling(frame, tidy), [one, other, third, fourth])

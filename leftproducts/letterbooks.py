@@ -75,8 +75,8 @@ def need_book(book):
 
 
 def is_rest_text(book, thing):
-    """Whether any value is a text of the book that is no head."""
-    return is_word(thing, book.letters, 0, book.most) and thing not in book.heads
+    """Whether any value is a text of the book, not empty, that is no head."""
+    return is_word(thing, book.letters, 1, book.most) and thing not in book.heads
 
 
 def texts_left(book, length):

@@ -3,7 +3,7 @@
 from leftproducts.errors import BadLead
 from leftproducts.leads import Lead, firsts_back
 from leftproducts.many import Many, need_heights, need_many
-from leftproducts.sums import add_to, tidied_table
+from leftproducts.sums import added_tables, tidied_table
 from leftproducts.tables import cut_sums, is_table, of_length, put_in
 
 
@@ -15,10 +15,9 @@ def moved_products(prime, heights, products, table, back, most):
     found = {}
     # The rule of a lead tells the product of a word of rows of one place by the shorter products.
     for length in range(1, most + 1):
-        rest = {word: dict(row) for word, row in of_length(wanted, length).items()}
-        for word, row in cut_sums(prime, table, found, length, length).items():
-            add_to(rest.setdefault(word, {}), row, -1)
-        found.update(cut_sums(prime, letters, tidied_table(rest, prime), length, length))
+        told = cut_sums(prime, table, found, length, length)
+        rest = added_tables(of_length(wanted, length), told, -1, prime)
+        found.update(cut_sums(prime, letters, rest, length, length))
     return found
 
 

@@ -11,11 +11,9 @@ from leftproducts.transfers import left_into, left_many, left_onto
 
 def choice_lead(frame, one, other, most):
     """The lead from what is left by one choice to what is left by the other one."""
-    need_frame(frame)
+    # Both choices are looked at ahead of most.
     tidied_choice(frame, one)
     tidied_choice(frame, other)
-    need_number(most, 1, 8, "most")
-    need_few(len(frame.heights), most, 10000)
     return put_behind(left_into(frame, one, most), left_onto(frame, other, most))
 
 

@@ -18,7 +18,7 @@ def inverse(number, prime):
 
 def less_basis(basis, row, prime):
     """row less multiples of the basis, without numbers at its first places."""
-    rest = dict(row)
+    rest = {place: row[place] for place in row}
     for place in row:
         if place in basis:
             add_to(rest, basis[place], -row[place])

@@ -17,6 +17,14 @@ def tidied_table(table, prime):
     return {key: rows[key] for key in rows if rows[key]}
 
 
+def added_tables(one, other, times, prime):
+    """The rows of one and times those of other, key by key, tidied."""
+    total = {key: dict(one[key]) for key in one}
+    for key in other:
+        add_to(total.setdefault(key, {}), other[key], times)
+    return tidied_table(total, prime)
+
+
 def add_to(total, row, times):
     """Adds times row to total, in place."""
     for place in row:

@@ -75,6 +75,24 @@ def two_level_book(seed):
     return Many(prime, [1] * low + [2] * high, 4, products)
 
 
+def one_road_book(seed):
+    """A book where x, y, z, t, places 0 to 3, have a doubtful product of four in which all comes in: two
+    places for h, three for k, one for l, and all their products, which end in places without products."""
+    rnd = random.Random(seed)
+    prime = rnd.choice((2, 3, 3))
+    h, k, l, u, v, w = (4, 5), (6, 7, 8), (9,), (10, 11), (12, 13), (16, 17, 18)
+    turns = [1, 2, 4, 16] + [3] * 2 + [6] * 3 + [20] + [8] * 2 + [23] * 2 + [7, 22] + [24] * 3
+    ways = [((0, 1, 2), u), ((1, 2, 3), v), ((0, 1, 2, 3), w), ((14, 3), w), ((0, 15), w), ((1, l[0]), v),
+            ((0, 1, l[0]), w)]
+    for place in h:
+        ways += [((place, 2), u), ((place, 2, 3), w), ((place, l[0]), w)]
+    for place in k:
+        ways += [((0, place), u), ((place, 3), v), ((0, place, 3), w)]
+    products = {word: {place: rnd.randrange(prime) for place in places if rnd.random() < 0.6}
+                for word, places in ways if rnd.random() < 0.7}
+    return Many(prime, [turn + 1 for turn in turns], 4, products)
+
+
 def hidden_three(prime=3):
     """A frame that leaves x, y of the heights 1, 2: two of x multiply to nothing, three of them to y."""
     return Frame(prime, [1, 1, 2, 2], {(0, 0): {2: 1}, (0, 1): {3: 1}}, {1: {2: 1}})

@@ -131,7 +131,15 @@ class AlikeTest(unittest.TestCase):
         self.assertTrue(any(len(word) == 2 for word in lead.rows))
 
     def test_of_rows_of_two_places_not_any_will_do(self):
-        # The rows of two places are to be chosen such that products of four come right, too.
+        # They are to be chosen such that products of four come right, too: here z for the word x x,
+        # while nothing else tells of it than that z x x is w and x x x x is to be w.
+        for prime in (2, 3, 7):
+            for number in range(prime):
+                one = Many(prime, [2, 3, 6], 4, {(1, 0, 0): {2: 1}})
+                other = Many(prime, [2, 3, 6], 4, {(1, 0, 0): {2: 1}, (0, 0, 0, 0): {2: number}})
+                self.look(alike_lead(one, other), one, other)
+                self.assertEqual(alike_firsts(other, one), alike_firsts(one, one))
+                self.assertEqual(alike_firsts(one, one), (prime - 1) ** 2)
         many = Many(2, [1, 2], 4, {(0, 0): {1: 1}})
         for seed in range(20):
             other = moved(many, seed).other

@@ -6,7 +6,7 @@ from leftproducts.doubts import doubt_of_four, doubt_of_three
 from leftproducts.errors import BadMany, BadRow, TooMany
 from leftproducts.many import Many, rows_product
 from leftproducts.transfers import left_many
-from tests.books import NO_MANYS, least_books, two_level_book
+from tests.books import NO_MANYS, least_books, one_road_book, two_level_book
 from tests.doubting import at_height, four, many_fine_rows, three
 from tests.helpers import (clean, is_ascending, letters_frame, refused, small_frames, spread, untouched)
 from tests.test_transfers import four_letters
@@ -138,6 +138,19 @@ class FourTest(unittest.TestCase):
                 keys = [tuple(row.items()) for row in found[0]]
                 self.assertEqual(keys, sorted(set(keys)))
                 self.assertTrue(all(is_ascending(row) for part in found for row in part))
+        self.assertTrue(min(told.values()) > 3, told)
+
+
+    def test_where_all_comes_in(self):
+        rnd = random.Random(3)
+        told = {"several": 0, "one": 0, "none": 0, "doubts": 0}
+        for seed in range(60):
+            many = one_road_book(seed)
+            rows = [{k: rnd.randrange(1, many.prime)} for k in range(4)]
+            found = doubt_of_four(many, *rows)
+            self.assertEqual(found, four(many, *rows))
+            told[("none", "one", "several")[min(2, len(found[0]))]] += 1
+            told["doubts"] += bool(found[1])
         self.assertTrue(min(told.values()) > 3, told)
 
 
