@@ -18,17 +18,22 @@ def _left_rows(prime, heights, made, kept):
     return found
 
 
-def choice_of_steps(prime, heights, steps):
-    """A choice for so many places with these heights and steps."""
+def split_by_steps(prime, heights, steps):
+    """The rows left, those made, and for each of these a row whose step it is, of so many places with these
+    heights and steps: each row has places of one height, and together they are free and as many as the places."""
     size = len(heights)
     solved = basis_of(tagged(steps, size), prime)
     firsts = sorted(solved)
     made = [ahead_of(solved[first], size) for first in firsts if first < size]
     roots = [tags_of(solved[first], size) for first in firsts if first < size]
     kept = [tags_of(solved[first], size) for first in firsts if first >= size]
-    left = _left_rows(prime, heights, made, kept)
-    # The rows left, made and their roots are a basis: onto and undo tell of each place
-    # how much of the rows left, and of the rows made, is in it.
+    return _left_rows(prime, heights, made, kept), made, roots
+
+
+def choice_of_split(prime, left, made, roots):
+    """The choice that leaves these rows and undoes each row made to its root."""
+    size = len(left) + len(made) + len(roots)
+    # onto and undo tell of each place how much of the rows left, and of the rows made, is in it.
     basis = basis_of(tagged([*left, *made, *roots], size), prime)
     onto, undo = [], []
     for place in range(size):
@@ -37,6 +42,12 @@ def choice_of_steps(prime, heights, steps):
         of_made = {k - len(left): shares[k] for k in shares if len(left) <= k < len(left) + len(made)}
         undo.append(led(roots, of_made, prime))
     return tuple(left), tuple(onto), tuple(undo)
+
+
+def choice_of_steps(prime, heights, steps):
+    """A choice for so many places with these heights and steps."""
+    left, made, roots = split_by_steps(prime, heights, steps)
+    return choice_of_split(prime, left, made, roots)
 
 
 def _is_triple_of_rows(frame, thing):

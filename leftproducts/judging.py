@@ -44,9 +44,14 @@ def are_heights(thing, least, most):
     return is_list(thing) and len(thing) <= 32 and all([is_between(height, least, most) for height in thing])
 
 
+def is_prime(thing):
+    """Whether thing is a prime from 2 to 31."""
+    return is_number(thing) and thing in PRIMES
+
+
 def need_prime(prime):
     """Raises BadPrime unless prime is one from 2 to 31."""
-    if not is_number(prime) or prime not in PRIMES:
+    if not is_prime(prime):
         raise BadPrime("a prime from 2 to 31 is wanted")
 
 

@@ -38,6 +38,27 @@ INTERFACE = {
     "bars": {"bars": "book", "bar_step": "book row", "bar_product": "book one other", "ladder_counts": "book"},
     "barchoices": {"bar_choice": "book", "is_bar_choice": "book thing"},
     "ladders": {"ladder_lengths": "book", "ladder_many": "book choice"},
+    "toldback": {"told_rules": "many lengths", "told_book": "many lengths", "is_level": "book",
+                 "stands_by_turns": "book length"},
+    "bigrows": {"big_table": "prime heights most products", "twice_left": "prime heights most table",
+                "is_big": "prime heights most thing", "products_told": "prime heights most table"},
+    "bigsizes": {"big_sizes": "many length", "big_led": "lead words"},
+    "wordsplits": {"line_sizes": "many length"},
+    "shuffles": {"shuffles": "heights one other", "turns_round": "many"},
+    "ones": {"is_one": "many row", "one_left": "frame choice"},
+    "pairings": {"is_end": "frame thing", "is_fit": "frame end choice", "fit_choice": "frame end",
+                 "end_number": "frame end choice word"},
+    "live": {"is_deed": "thing", "LiveFrame": "frame"},
+    "frametexts": {"frame_text": "frame", "frame_of_text": "text"},
+    "deedtexts": {"deed_text": "deed", "deed_of_text": "text"},
+    "journals": {"journal_text": "live", "led_live": "text"},
+    "desk": {"Desk": "frame"},
+}
+METHODS = {
+    "live": {"LiveFrame": {"do": "self deed", "deeds": "self", "undo": "self", "redo": "self", "told": "self",
+                           "watch": "self name row", "unwatch": "self name", "watched": "self",
+                           "three": "self one other last"}},
+    "desk": {"Desk": {"say": "self line"}},
 }
 
 
@@ -53,14 +74,25 @@ class InterfaceTest(unittest.TestCase):
                 thing = getattr(module, name)
                 self.assertEqual(list(inspect.signature(thing).parameters), parameters.split(), name)
 
+    def test_methods_stand_in_their_class(self):
+        for file, classes in METHODS.items():
+            module = importlib.import_module(f"leftproducts.{file}")
+            for name, methods in classes.items():
+                for method, parameters in methods.items():
+                    own = vars(getattr(module, name))[method]
+                    self.assertEqual(list(inspect.signature(own).parameters), parameters.split(), method)
+
     def test_objects_are_equal_to_nothing_of_another_kind(self):
+        from leftproducts.desk import Desk
         from leftproducts.frames import Frame
         from leftproducts.leads import plain_lead
         from leftproducts.letterbooks import LetterBook
+        from leftproducts.live import LiveFrame
         from leftproducts.many import many_of
         frame = Frame(3, [0], {}, {})
         many = many_of(frame, 2)
-        things = [frame, many, plain_lead(many), LetterBook(3, 1, 2, []), None, (), {}, 0, "x"]
+        things = [frame, many, plain_lead(many), LetterBook(3, 1, 2, []), LiveFrame(frame), Desk(frame), None, (), {},
+                  0, "x"]
         for k, one in enumerate(things):
             for j, other in enumerate(things):
                 self.assertEqual(one == other, k == j)
