@@ -66,12 +66,12 @@ def big_table(prime, heights, most, products):
     return tidied_table(steps, prime)
 
 
-def _led_words(table, row, prime):
+def _led_words(table, row):
     # Words that are lacking in the table are led to nothing.
     total = {}
     for word, number in row.items():
         add_to(total, table.get(word, {}), number)
-    return tidied(total, prime)
+    return total
 
 
 def twice_left(prime, heights, most, table):
@@ -79,7 +79,7 @@ def twice_left(prime, heights, most, table):
     _need_frame_of_words(prime, heights, most)
     if not _is_table_of_words(table, len(heights), most):
         raise BadWords("a table of words of the places is wanted")
-    return tidied_table({word: _led_words(table, table[word], prime) for word in table}, prime)
+    return tidied_table({word: _led_words(table, table[word]) for word in table}, prime)
 
 
 def _first_products(table):
@@ -99,8 +99,8 @@ def _lacks_none(prime, heights, most, products, table):
             if word not in table and big_step(prime, heights, products, word):
                 return False
             if len(word) < most:
-                grown = grown + [(place,) + word for place in range(len(heights))]
-                grown = grown + [word + (place,) for place in range(len(heights))]
+                grown.extend([(place,) + word for place in range(len(heights))])
+                grown.extend([word + (place,) for place in range(len(heights))])
         begun = []
         for word in grown:
             if word not in seen:

@@ -36,8 +36,8 @@ def numbers_of(words, least, most):
 
 
 def row_of(words):
-    """The row that is written in these words, of places from 0 to 31 and numbers from 1 to 30; None if there is
-    none."""
+    """The row that is written in these words, of places from 0 to 31 and numbers from 1 to 30; None if they are
+    of another form."""
     if words == ["-"]:
         return {}
     row = {}
@@ -49,7 +49,7 @@ def row_of(words):
         if place is None or number is None or (row and place <= max(row)):
             return None
         row[place] = number
-    return row if row else None
+    return row
 
 
 def _first_told(line):

@@ -18,8 +18,8 @@ def _end_of_both(frame, end, one, other):
 
 def _end_table(frame, end):
     # For each place the ends of its products with the places behind it.
-    places = range(len(frame.heights))
-    return [{b: _end_of(frame.prime, end, frame.product.get((a, b), {})) for b in places} for a in places]
+    size = len(frame.heights)
+    return [{b: _end_of(frame.prime, end, frame.product.get((a, b), {})) for b in range(size)} for a in range(size)]
 
 
 def _turns_about(frame, table):
@@ -36,7 +36,7 @@ def is_end(frame, thing):
     if not is_row(thing, len(frame.heights)):
         return False
     end = tidied(thing, frame.prime)
-    if len(sorted({frame.heights[place] for place in end})) > 1:
+    if len({frame.heights[place] for place in end}) > 1:
         return False
     if any([_end_of(frame.prime, end, row) for row in frame.step.values()]):
         return False
@@ -46,13 +46,13 @@ def is_end(frame, thing):
 
 
 def _need_end(frame, end):
+    # What is no frame is told ahead of what is no end.
     if not is_end(frame, end):
         raise BadEnd("an end of the frame is wanted")
 
 
 def is_fit(frame, end, choice):
     """Whether undo of the choice goes over from one side to the other in the ends of products."""
-    need_frame(frame)
     _need_end(frame, end)
     _, _, undo = tidied_choice(frame, choice)
     for a, height in enumerate(frame.heights):
@@ -79,7 +79,6 @@ def _less_by_ends(frame, end, rows, mates, others, times):
 
 def fit_choice(frame, end):
     """A choice that is fit."""
-    need_frame(frame)
     _need_end(frame, end)
     if frame.prime == 2:
         raise NotOdd("a prime other than 2 is wanted")
@@ -113,7 +112,6 @@ def _product_by_trees(frame, choice, word):
 
 def end_number(frame, end, choice, word):
     """The end of the product of all leftovers of the word but the last one, and of that one."""
-    need_frame(frame)
     _need_end(frame, end)
     tidy = tidied_choice(frame, choice)
     within = tidy[0]

@@ -31,10 +31,11 @@ def _letters_of(many):
     return {place: letter for letter, place in enumerate(places)}
 
 
-def _rule_at(many, letters, place, length):
+def _rule_at(many, letters, place):
+    # Letters have the length 1 and products keep lengths: each text has as many letters as the place's length tells.
     rule = {}
     for word, row in many.products.items():
-        if len(word) == length and place in row and all([one in letters for one in word]):
+        if place in row and all([one in letters for one in word]):
             rule[tuple([letters[one] for one in word])] = row[place]
     return rule
 
@@ -48,7 +49,7 @@ def told_rules(many, lengths):
     found = []
     for place, height in enumerate(many.heights):
         if height == 2 and 2 <= lengths[place] <= many.most:
-            found.append(_rule_at(many, letters, place, lengths[place]))
+            found.append(_rule_at(many, letters, place))
     return tuple(found)
 
 

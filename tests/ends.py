@@ -6,7 +6,7 @@ from leftproducts.frames import Frame
 from leftproducts.makers import faces_frame, turning_frame
 from leftproducts.pairings import fit_choice
 from leftproducts.sides import beside
-from tests.helpers import (clean, frame_product, frame_step, letters_frame, random_rows, rebased, sign, spread)
+from tests.helpers import clean, frame_product, frame_step, led_back, letters_frame, random_rows, rebased, sign
 
 
 def maps_frame(prime, heights, steps):
@@ -57,21 +57,8 @@ def frames_with_ends():
 def other_fit_choice(frame, end, seed):
     """A fit choice that is not the package's own: that of the frame told by other rows, led back, its leftovers
     mixed and in another sequence."""
-    rnd = random.Random(seed)
-    prime = frame.prime
     mixed, led, there, back = mixed_end(frame, end, seed)
-    within, onto, undo = fit_choice(mixed, led)
-    within = [spread(back, row, prime) for row in within]
-    onto = [spread(onto, there[k], prime) for k in range(len(there))]
-    undo = [spread(back, spread(undo, there[k], prime), prime) for k in range(len(there))]
-    order = list(range(len(within)))
-    rnd.shuffle(order)
-    within = [within[k] for k in order]
-    onto = [{order.index(k): number for k, number in row.items()} for row in onto]
-    to_new, to_old = random_rows(rnd, prime, [frame.heights[min(row)] for row in within])
-    within = [spread(within, to_old[k], prime) for k in range(len(within))]
-    onto = [spread(to_new, row, prime) for row in onto]
-    return tuple(within), tuple(onto), tuple(undo)
+    return led_back(frame, fit_choice(mixed, led), there, back, random.Random(seed))
 
 
 def end_of(frame, end, row):

@@ -138,13 +138,10 @@ def mixed_frame(frame, seed):
     return rebased(frame, *random_rows(random.Random(seed), frame.prime, frame.heights))
 
 
-def other_choice(frame, seed):
-    """A choice for frame that is not the package's own: that of the frame told by other rows, led back,
-    its leftovers in another sequence and mixed."""
-    rnd = random.Random(seed)
+def led_back(frame, choice, there, back, rnd):
+    """The choice for frame told by other rows, led back, its leftovers in another sequence and mixed."""
     prime = frame.prime
-    there, back = random_rows(rnd, prime, frame.heights)
-    within, onto, undo = made_choice(rebased(frame, there, back))
+    within, onto, undo = choice
     within = [spread(back, row, prime) for row in within]
     onto = [spread(onto, there[k], prime) for k in range(len(there))]
     undo = [spread(back, spread(undo, there[k], prime), prime) for k in range(len(there))]
@@ -157,6 +154,14 @@ def other_choice(frame, seed):
     within = [spread(within, to_old[k], prime) for k in range(len(within))]
     onto = [spread(to_new, row, prime) for row in onto]
     return tuple(within), tuple(onto), tuple(undo)
+
+
+def other_choice(frame, seed):
+    """A choice for frame that is not the package's own: that of the frame told by other rows, led back,
+    its leftovers in another sequence and mixed."""
+    rnd = random.Random(seed)
+    there, back = random_rows(rnd, frame.prime, frame.heights)
+    return led_back(frame, made_choice(rebased(frame, there, back)), there, back, rnd)
 
 
 def letters_frame():

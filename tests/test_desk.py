@@ -1,5 +1,6 @@
 import random
 import unittest
+from itertools import product
 
 from leftproducts.deedtexts import deed_text
 from leftproducts.desk import Desk
@@ -86,6 +87,20 @@ class DeskTest(unittest.TestCase):
                   ("watch o -", "done"), ("three x x y", "no"), ("three x x x", "yes"), ("three o o o", "yes"),
                   ("three x y z", "none"), ("three x y w", "refused"), ("three w y x", "refused"),
                   ("three z z w", "refused"), ("drop z", "done"), ("three x x z", "refused"))
+
+    def test_threes_of_all_names(self):
+        desk = Desk(letters_frame())
+        for line in ("watch x 1:1", "watch y 2:1", "watch z 3:1", "watch o -", "watch u 6:1", "watch i 0:1"):
+            self.assertEqual(desk.say(line), "done")
+        words = {True: "yes", False: "no", None: "none"}
+        told = {}
+        for names in product("xyzoui", repeat=3):
+            told[names] = desk.say("three " + " ".join(names))
+            self.assertEqual(told[names], words[desk.live.three(*names)])
+        self.assertEqual(set(told.values()), {"yes", "no", "none"})
+        # The sequence of the names matters.
+        for order in ((0, 0, 2), (0, 2, 2), (0, 0, 1), (1, 1, 2), (0, 2, 1), (1, 0, 2)):
+            self.assertTrue(any(told[names] != told[tuple(names[k] for k in order)] for names in told))
 
     def test_all_else(self):
         desk = Desk(letters_frame())

@@ -17,7 +17,18 @@ POINT = Frame(3, [0], {(0, 0): {0: 1}}, {})
 DEEDS = (("turn",), ("rename", []), ("rename", ()), ("rename", [1, 0]), ("rename", (31, 31, 0)), ("part", []),
          ("part", (0, 2)), ("part", [5, 5, 1]), ("mix", 0, 1, 5), ("mix", 31, 31, -99), ("mix", 0, 0, 0),
          ("scale", 0, 99), ("scale", 31, 0), ("scale", 3, -99), ("beside", POINT), ("rename", [0] * 40))
+
+
+class Same:
+    """Equal to any value."""
+
+    def __eq__(self, other):
+        return True
+
+
 NO_DEEDS = JUNK + (
+    (Same(),), (Same(), [0]), (Same(), 0, 1), (Same(), 0, 1, 2), (Same(), POINT), ("besides", POINT), ("turn", POINT),
+    ("rename", POINT), ("", POINT), ("beside", [POINT]), ("beside", "frame 3"),
     ["turn"], "turn", ("turn", 0), ("turn", ()), ("turned",), ("",), (b"turn",), (("turn",),), ("Turn",),
     ("rename",), ("rename", 0), ("rename", 0, 1), ("rename", None), ("rename", "01"), ("rename", {0: 1}),
     ("rename", [32]), ("rename", [-1]), ("rename", [True]), ("rename", [0.0]), ("rename", ["0"]), ("rename", [[0]]),

@@ -97,6 +97,12 @@ class IsEndTest(unittest.TestCase):
         self.assertIs(is_end(frame, {0: 1, 3: 1}), False)
         self.assertIs(is_end(maps_frame(3, [0, 1], {})[0], {0: 1, 3: 1}), False)
         self.assertIs(is_end(maps_frame(3, [0, 2], {})[0], {0: 1, 3: 1}), True)
+        # u v is t, and t has the end 1: it may not be the step of u.
+        product = {(0, 0): {0: 1}, (1, 2): {3: 1}, (2, 1): {3: 2}}
+        for place in (1, 2, 3):
+            product[0, place] = product[place, 0] = {place: 1}
+        self.assertIs(is_end(Frame(3, [0, -1, 1, 0], product, {}), {3: 1}), True)
+        self.assertIs(is_end(Frame(3, [0, -1, 1, 0], product, {1: {3: 1}}), {3: 1}), False)
         letter = Frame(5, [0, 1, 2], {(0, 0): {0: 1}, (0, 1): {1: 1}, (1, 0): {1: 1}, (0, 2): {2: 1}, (2, 0): {2: 1},
                                       (1, 1): {2: 1}}, {})
         self.assertIs(is_end(letter, {2: 1}), False)

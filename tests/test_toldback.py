@@ -81,6 +81,11 @@ class ToldRulesTest(unittest.TestCase):
         many = Many(2, [1, 2, 2], 4, {(0, 0, 0): {1: 1}, (0, 0, 0, 0): {2: 1}})
         self.assertEqual(told_rules(many, (1, 3, 4)), ({(0, 0, 0): 1}, {(0, 0, 0, 0): 1}))
 
+    def test_words_with_other_places_among_letters(self):
+        many = Many(3, [1, 0, 2, 2], 3, {(0, 1, 2): {3: 1}, (0, 0, 0): {3: 2}})
+        self.assertEqual(told_rules(many, (1, 1, 1, 3)), ({(0, 0, 0): 2},))
+        self.assertEqual(told_rules(Many(3, [1, 0, 2, 2], 3, {(0, 1, 2): {3: 1}}), (1, 1, 1, 3)), ({},))
+
     def test_letters_alone_and_none(self):
         self.assertEqual(told_rules(Many(3, [1, 1, 1], 4, {}), (1, 1, 1)), ())
         self.assertEqual(told_book(Many(3, [1, 1, 1], 4, {}), (1, 1, 1)), LetterBook(3, 3, 4, []))
@@ -116,6 +121,12 @@ class ToldRulesTest(unittest.TestCase):
         many = Many(3, [2, 3], 2, {(0,): {1: 1}})
         self.assertEqual(told_rules(many, (2, 2)), ({},))
         refused(self, BadLengths, None, None, told_rules, many, (2, 3))
+        # One place of a product that keeps the length is not enough; a length below 1 is none, without products, too.
+        many = Many(3, [1, 2, 2], 2, {(0, 0): {1: 1, 2: 1}})
+        for lengths in ((1, 2, 3), (1, 1, 2)):
+            refused(self, BadLengths, None, None, told_rules, many, lengths)
+        for length in (0, -1):
+            refused(self, BadLengths, None, None, told_rules, Many(3, [2], 3, {}), (length,))
         # A number of rest 0 is none.
         many = Many(3, [1, 2, 2], 2, {(0, 0): {1: 1, 2: 3}})
         self.assertEqual(told_rules(many, (1, 2, 5)), ({(0, 0): 1},))
